@@ -1,0 +1,1 @@
+"""sixthrows: rules with short overlaps."""
