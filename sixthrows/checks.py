@@ -10,6 +10,16 @@ def is_whole(value):
     return isinstance(value, int) and not isinstance(value, bool)
 
 
+def is_whole_from(value, lowest, highest):
+    """Whether a value is an integer within these bounds."""
+    return is_whole(value) and lowest <= value <= highest
+
+
+def is_index(value, items):
+    """Whether a value is the index of one of these items; none is below 0."""
+    return is_whole_from(value, 0, len(items) - 1)
+
+
 def is_row(value):
     """Whether a value is a string of letters from a to z and capitals."""
     # isalpha alone would let letters of other alphabets pass, and would deny the empty row.

@@ -1,7 +1,7 @@
 """Rules: letters, and told rows that are nothing."""
 
-from sixthrows.checks import are_letters, is_row_of, is_whole
-from sixthrows.errors import NoIndex, NoLetters, NoRows
+from sixthrows.checks import are_letters, is_index, is_row_of
+from sixthrows.errors import NoIndex, NoLetters, NoRow, NoRows
 from sixthrows.free import back, core
 
 MOST_ROWS = 6
@@ -28,6 +28,18 @@ def can_stand(value, letters, earlier):
     return not any([is_turned(value, told) for told in earlier])
 
 
+def check_index(value, rows):
+    """Raise NoIndex unless a value is the index of one of these told rows."""
+    if not is_index(value, rows):
+        raise NoIndex("there is no told row with this index")
+
+
+def check_row_of(value, letters):
+    """Raise NoRow unless a value is a row of these letters and their backs."""
+    if not is_row_of(value, letters):
+        raise NoRow("this is not a row of the letters of the rules and their backs")
+
+
 class Rules:
     """Letters and told rows; it does not change."""
 
@@ -52,8 +64,7 @@ class Rules:
 
     def without(self, index):
         """The rules without the told row with this index."""
-        if not is_whole(index) or not 0 <= index < len(self._rows):
-            raise NoIndex("there is no told row with this index")
+        check_index(index, self._rows)
         return Rules(self._letters, self._rows[:index] + self._rows[index + 1:])
 
     def __eq__(self, other):

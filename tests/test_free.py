@@ -1,10 +1,11 @@
-import inspect
 import random
 import unittest
 
 from sixthrows import free
 from sixthrows.free import back, core, joined, least, pass_freely, ring_alike, ring_lead, root
-from tests.samples import NOT_ROWS, NOT_STRINGS, Raising, all_rows, free_rows, is_free
+from tests.samples import (
+    NOT_ROWS, NOT_STRINGS, Raising, all_rows, asserted_signatures, free_rows, is_free, plain_back, reduced,
+)
 
 LONG = "ab" * 75 + "BA" * 75
 ALPHABET = "abcdefghijklmnopqrstuvwxyz"
@@ -20,32 +21,16 @@ def taken_out(row, chance):
         row = row[:at] + row[at + 2:]
 
 
-def plain_back(row):
-    return "".join(char.swapcase() for char in reversed(row))
-
-
-def reduced(row):
-    return taken_out(row, random.Random(0))
-
-
 def is_ring(row):
     return is_free(row) and (row == "" or row[0] != row[-1].swapcase())
 
 
 class TestInterface(unittest.TestCase):
     def test_names_and_arguments(self):
-        expected = {
+        asserted_signatures(self, free, {
             "least": ["row"], "back": ["row"], "joined": ["rows"], "core": ["row"], "root": ["row"],
             "ring_alike": ["one", "two"], "ring_lead": ["one", "two"], "pass_freely": ["one", "two"],
-        }
-        for name, arguments in expected.items():
-            with self.subTest(name=name):
-                function = getattr(free, name)
-                self.assertEqual(function.__module__, "sixthrows.free")
-                self.assertEqual(function.__name__, name)
-                found = inspect.signature(function).parameters.values()
-                self.assertEqual([one.name for one in found], arguments)
-                self.assertTrue(all(one.default is one.empty for one in found))
+        })
 
     def test_arguments_by_name(self):
         self.assertEqual(least(row="aAb"), "b")

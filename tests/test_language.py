@@ -87,6 +87,36 @@ class TestCode(unittest.TestCase):
             own = node.arg if isinstance(node, ast.arg) else node.name
             self.assertNotIn(own, vars(builtins), (name, node.lineno))
 
+    def test_names_are_no_imports_and_no_classes(self):
+        for path in FILES:
+            tree = list(ast.walk(ast.parse(path.read_text(encoding="utf-8"))))
+            taken = {node.name for node in tree if isinstance(node, ast.ClassDef)}
+            taken |= {alias.name for node in tree if isinstance(node, ast.ImportFrom) for alias in node.names}
+            for node in tree:
+                if isinstance(node, ast.arg):
+                    self.assertNotIn(node.arg, taken, (path.name, node.lineno))
+                if isinstance(node, ast.FunctionDef):
+                    self.assertNotIn(node.name, taken, (path.name, node.lineno))
+                if isinstance(node, ast.Name) and isinstance(node.ctx, ast.Store):
+                    self.assertNotIn(node.id, taken, (path.name, node.lineno))
+
+    def test_imports_name_the_file_and_go_one_way(self):
+        asked = {path.stem: set() for path in FILES}
+        for path in FILES:
+            for node in ast.walk(ast.parse(path.read_text(encoding="utf-8"))):
+                if isinstance(node, ast.ImportFrom) and node.module.startswith("sixthrows."):
+                    stem = node.module.split(".")[1]
+                    asked[path.stem].add(stem)
+                    body = ast.parse((PACKAGE / f"{stem}.py").read_text(encoding="utf-8")).body
+                    names = {getattr(one, "name", None) for one in body}
+                    names |= {one.targets[0].id for one in body if isinstance(one, ast.Assign)}
+                    self.assertLessEqual({alias.name for alias in node.names}, names, (path.name, stem))
+        while asked:
+            last = [stem for stem in asked if not asked[stem] & set(asked)]
+            self.assertNotEqual(last, [], asked)
+            for stem in last:
+                del asked[stem]
+
     def test_methods(self):
         own = [node.name for _, node in nodes(ast.FunctionDef)]
         for name, node in nodes(ast.Call):

@@ -6,14 +6,10 @@ from unittest import mock
 from sixthrows import rules as module
 from sixthrows.free import back
 from sixthrows.rules import Rules
-from tests.samples import NOT_INTEGERS, NOT_ROWS, NOT_STRINGS, Raising, all_rows, is_free
+from tests.samples import NOT_INTEGERS, NOT_ROWS, NOT_STRINGS, Raising, all_rows, is_free, turned
 
 ALPHABET = "abcdefghijklmnopqrstuvwxyz"
 SIX = ("a", "b", "c", "ab", "aB", "ac")
-
-
-def turned(row):
-    return [row[at:] + row[:at] for at in range(len(row))]
 
 
 class TestInterface(unittest.TestCase):
