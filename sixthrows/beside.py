@@ -65,7 +65,8 @@ def free_rows(letters, length):
     signs = letters.upper() + letters
     sizes = [[""]]
     for _ in range(length):
-        sizes.append([row + sign for row in sizes[-1] for sign in signs if row[-1:] != sign.swapcase()])
+        longer = [row + sign for row in sizes[-1] for sign in signs if row[-1:] != sign.swapcase()]
+        sizes.append(longer)
     return sizes
 
 

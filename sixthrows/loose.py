@@ -21,29 +21,29 @@ def less(one, two, times):
 
 
 def gathered(lines, at):
-    """The tuple (line, others): of the same sums, with just one line that has any at a place.
+    """The tuple (line, others): lines for the same sums, of which just line has any at a place.
 
-    It needs a line that has some there. A line that is the only one, or that divides all
-    others there, stays as it is if no earlier one is as small.
+    Some line has to have any there. If the first one has and divides all others there, it is line.
     """
     while True:
         _, chosen = min([(abs(line[at]), index) for index, line in enumerate(lines) if line[at] != 0])
-        line = lines[chosen]
-        others = [other for index, other in enumerate(lines) if index != chosen]
-        lines = [line] + [less(other, line, other[at] // line[at]) for other in others]
-        if not any([other[at] != 0 for other in lines[1:]]):
-            return line, lines[1:]
+        least = lines[chosen]
+        others = [line for index, line in enumerate(lines) if index != chosen]
+        rests = [less(line, least, line[at] // least[at]) for line in others]
+        if not any([line[at] != 0 for line in rests]):
+            return least, rests
+        lines = [least] + rests
 
 
 def stairs(lines):
-    """Lines that give the same sums, each with its first one behind that of the line before."""
+    """Lines for the same sums, each with its first one behind that of the line before."""
     found = []
-    if not lines:
-        return found
-    for at in range(len(lines[0])):
-        if any([line[at] != 0 for line in lines]):
-            line, lines = gathered(lines, at)
-            found.append(line)
+    left = lines
+    width = len(lines[0]) if lines else 0
+    for at in range(width):
+        if any([line[at] != 0 for line in left]):
+            first, left = gathered(left, at)
+            found.append(first)
     return found
 
 

@@ -40,11 +40,6 @@ def half_at_end(known, kept):
     return None
 
 
-def turn_lead(told, at):
-    """A short row that, before told and with its back behind it, turns told about by so many."""
-    return min(back(told[:at]), told[at:], key=len)
-
-
 def taken_out(known, row, noting):
     """The tuple (rest, steps): what is left when halves are taken out, and a product of the others.
 
@@ -65,7 +60,8 @@ def taken_out(known, row, noting):
         size, (ending, told, index, sign, at) = half
         del kept[-size:]
         if noting:
-            steps.append((least("".join(kept) + turn_lead(told, at)), index, sign))
+            # Told within the back of what it begins with is told, turned about.
+            steps.append((least("".join(kept) + back(told[:at])), index, sign))
         # The back of the ending comes next; the list gives its last character first.
         coming.extend(ending.swapcase())
     return "".join(kept), steps

@@ -86,8 +86,8 @@ def overlap(rules, one, two):
 def pieces(rules):
     """The ascending list of the pieces that are no beginning of a longer piece."""
     starts = sorted({one[:shared(one, two)] for one, two in neighbours(rules)})
-    # What begins with a row stands right behind it in this order.
-    return [row for row, later in zip(starts, starts[1:] + [""]) if row != "" and not later.startswith(row)]
+    # What begins with a row stands right behind it in this order; with the empty row all begins.
+    return [row for row, later in zip(starts, starts[1:] + [""]) if not later.startswith(row)]
 
 
 def is_short(rules):

@@ -359,6 +359,7 @@ class TestIsProduct(Checks, unittest.TestCase):
         self.assertIs(is_product(self.rules, "", [("", 1, 1), ("", 1, -1)]), True)
         for lead in NOT_ROWS + ("c", "aC", "abcABC"):
             self.assertIs(is_product(self.rules, row, [(lead, 1, 1)]), False)
+            self.assertIs(is_product(self.rules, "", [(lead, 1, 1), (lead, 1, -1)]), False)
         for index in (None, True, False, "1", 1.0, -1, 2, 10 ** 59, (1,), [1], -2):
             self.assertIs(is_product(self.rules, row, [("a", index, 1)]), False)
             self.assertIs(is_product(self.rules, "", [("a", index, 1), ("a", index, -1)]), False)

@@ -320,6 +320,16 @@ class TestLeastPower(unittest.TestCase):
         self.assertEqual(least_power(rules), 25)
         self.assertEqual(listed_power(rules, 25), 25)
 
+    def test_rows_that_part_late(self):
+        for rows, expected in (
+            (("a" * 39 + "b", "a" * 38 + "b"), 12), (("a" * 20 + "b", "a" * 19 + "b"), 12),
+            (("ab" * 19 + "b", "ab" * 18 + "b"), 13),
+        ):
+            with self.subTest(rows=rows):
+                rules = Rules("ab", rows)
+                self.assertEqual(least_power(rules), expected)
+                self.assertEqual(listed_power(rules, expected), expected)
+
     def test_with_power(self):
         for rules in (Rules("ab", ("abAB",)), Rules("ab", ("a", "ab")), Rules("abc", ("ab", "ac")), DOC):
             times = least_power(rules)
