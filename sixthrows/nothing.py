@@ -3,7 +3,7 @@
 from sixthrows.checks import is_index, is_row_of, is_whole
 from sixthrows.free import back, core, least, root
 from sixthrows.overlaps import check_short
-from sixthrows.rules import check_row_of
+from sixthrows.rules import LONGEST_ROW, check_row_of
 
 
 def check_asked(rules, rows):
@@ -20,14 +20,15 @@ def halves(rules):
     with the sign -1, and by how many characters the kin is this one turned about.
     """
     known = {}
+    for row in rules.rows():
+        known[len(row) // 2 + 1] = {}
     for index, row in enumerate(rules.rows()):
         size = len(row) // 2 + 1
-        of_size = known.setdefault(size, {})
         for sign, told in ((1, row), (-1, back(row))):
             around = told + told
             # Turned about by its root, a row is itself again.
             for at in range(len(told) // root(told)[1]):
-                of_size[around[at:at + size]] = (around[at + size:at + len(told)], told, index, sign, at)
+                known[size][around[at:at + size]] = (around[at + size:at + len(told)], told, index, sign, at)
     return known
 
 
@@ -58,7 +59,8 @@ def taken_out(known, row, noting):
         if half is None:
             continue
         size, (ending, told, index, sign, at) = half
-        del kept[-size:]
+        for _ in range(size):
+            kept.pop()
         if noting:
             # Told within the back of what it begins with is told, turned about.
             steps.append((least("".join(kept) + back(told[:at])), index, sign))
@@ -137,16 +139,36 @@ def possible_orders(rules):
     return sorted(set(found))
 
 
-def order(rules, row):
-    """The least number of times that makes a row nothing, None if there is none."""
-    check_asked(rules, [row])
+def ring_rest(known, row):
+    """A ring row that is the same as a row within some lead; it and it turned about by half are rests."""
+    ring = core(shortened(known, row))[1]
+    while True:
+        middle = len(ring) // 2
+        other = core(shortened(known, ring[middle:] + ring[:middle]))[1]
+        if len(other) == len(ring):
+            return ring
+        ring = other
+
+
+def order_of(rules, row):
+    """The order of a row by rules that are short."""
     known = halves(rules)
     # A lead before a row and its back behind it do not change its order.
-    ring = core(shortened(known, row))[1]
+    ring = ring_rest(known, row)
+    # More than half of a kin would stand in such a ring or in it turned about by half, too:
+    # written often, it stays as it is. This spares long rows the looking through.
+    if len(ring) > LONGEST_ROW:
+        return None
     for times in possible_orders(rules):
         if shortened(known, ring * times) == "":
             return times
     return None
+
+
+def order(rules, row):
+    """The least number of times that makes a row nothing, None if there is none."""
+    check_asked(rules, [row])
+    return order_of(rules, row)
 
 
 def coming_round(rules):

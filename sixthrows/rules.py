@@ -69,3 +69,8 @@ class Rules:
 
     def __eq__(self, other):
         return isinstance(other, Rules) and self._letters == other._letters and self._rows == other._rows
+
+
+def with_row(rules, row):
+    """The rules with a told row more; NoRows, with the number of the others, if it cannot stand there."""
+    return Rules(rules.letters(), rules.rows() + (row,))

@@ -1,13 +1,19 @@
-"""What holds of all functions over rules: names of arguments, calls again, lists that are new."""
+"""What holds of all functions: names of arguments, calls again, lists that are new, no integers."""
 
 import copy
 import unittest
 
 from sixthrows.beside import alike, following, makes, missing_row, shortest, unlike_counts
+from sixthrows.desks import Desk
+from sixthrows.errors import RowError
+from sixthrows.free import back, core, joined, least, pass_freely, ring_alike, ring_lead, root
+from sixthrows.live import Live
 from sixthrows.loose import divisors, loose_order, sums
+from sixthrows.maps import map_holds, maps, moved, parting_map
 from sixthrows.nothing import coming_round, is_nothing, is_product, is_rest, order, product, rest, same
 from sixthrows.overlaps import clashes, is_short, least_lots, least_power, overlap, pieces, power
 from sixthrows.rules import Rules
+from sixthrows.texts import product_text, read_product, read_row, read_rules, row_text, rules_text
 from tests.samples import DOC
 
 CLASHING = Rules("ab", ("aab", "abAB", "b"))
@@ -45,6 +51,24 @@ def asked():
         (sums, {"rules": DOC, "row": "abbA"}, (0, 2)),
         (divisors, {"rules": Rules("abc", ("aaaa", "bb"))}, (1, [2, 4])),
         (loose_order, {"rules": POWERS, "row": "ab"}, 12),
+        (moved, {"letters": "ab", "images": [(1, 0, 2), (1, 2, 0)], "row": "aB"}, (0, 2, 1)),
+        (map_holds, {"rules": POWERS, "images": [(1, 0, 2), (1, 2, 0)]}, True),
+        (maps, {"rules": Rules("a", ("aa",)), "points": 2}, [[(0, 1)], [(1, 0)]]),
+        (parting_map, {"rules": Rules("a", ("aa",)), "row": "aaa", "points": 2}, [(1, 0)]),
+        (rules_text, {"rules": POWERS}, "letters ab\na4 is nothing\nb3 is nothing"),
+        (read_rules, {"text": "letters ab\na3a is nothing\nbbb is nothing"}, POWERS),
+        (row_text, {"row": "aabA"}, "a2bA"),
+        (read_row, {"text": "a2bA"}, "aabA"),
+        (product_text, {"thing": [("aa", 0, 1), ("", 12, -1)]}, "a2 0 +\n- 12 -"),
+        (read_product, {"text": "a2 0 +\n- 12 -"}, [("aa", 0, 1), ("", 12, -1)]),
+        (least, {"row": "abBa"}, "aa"),
+        (back, {"row": "abA"}, "aBA"),
+        (joined, {"rows": ["ab", "", "Ba"]}, "aa"),
+        (core, {"row": "abA"}, ("a", "b")),
+        (root, {"row": "abbA"}, ("abA", 2)),
+        (ring_alike, {"one": "ab", "two": "ba"}, True),
+        (ring_lead, {"one": "ab", "two": "aab"}, None),
+        (pass_freely, {"one": "aa", "two": "A"}, True),
     ]
 
 
@@ -65,6 +89,13 @@ def kept(arguments):
     return {name: (rules.letters(), rules.rows()) for name, rules in made.items()}, copy.deepcopy(others)
 
 
+# All functions of the interface, and what each asks for an integer by.
+INTEGERS = {
+    overlap: ("one", "two"), power: ("times",), unlike_counts: ("length",), shortest: ("length",), maps: ("points",),
+    parting_map: ("points",),
+}
+
+
 class TestCalls(unittest.TestCase):
     def check(self, call, arguments, expected):
         found = call(**arguments)
@@ -79,6 +110,38 @@ class TestCalls(unittest.TestCase):
             self.check(call, dict(reversed(arguments.items())), expected)
             with self.subTest(function=call.__name__):
                 self.assertEqual(call(*arguments.values()), expected)
+
+    def test_true_and_false_are_no_integers(self):
+        for call, arguments, _ in asked():
+            for name in INTEGERS.get(call, ()):
+                for value in (True, False, 1.0, "1"):
+                    with self.subTest(function=call.__name__, name=name, value=value):
+                        self.assertRaises(RowError, call, **{**arguments, name: value})
+
+    def test_tuples_for_lists_and_lists_for_tuples(self):
+        self.assertRaises(RowError, following, POWERS, ("a",))
+        self.assertRaises(RowError, joined, ("a",))
+        self.assertRaises(RowError, Rules, "ab", ["ab"])
+        self.assertIs(is_product(POWERS, "aaaa", PRODUCT), False)
+        self.assertRaises(RowError, product_text, PRODUCT)
+        self.assertRaises(RowError, product_text, [list(step) for step in PRODUCT])
+        self.assertRaises(RowError, moved, "a", ((1, 0),), "a")
+        self.assertRaises(RowError, moved, "a", [[1, 0]], "a")
+        self.assertRaises(RowError, map_holds, POWERS, ((1, 0), (0, 1)))
+
+    def test_a_call_that_raises_changes_nothing(self):
+        live, desk = Live(POWERS), Desk()
+        live.lay("ab")
+        for call, arguments, expected in asked():
+            for name in arguments:
+                if not isinstance(arguments[name], Rules):
+                    before = kept(arguments)
+                    # No argument that names an error takes such a value; is_product takes any.
+                    if call is not is_product or name != "thing":
+                        self.assertRaises(RowError, call, **{**arguments, name: {"no": [1]}})
+                    self.assertEqual(kept(arguments), before)
+            self.check(call, arguments, expected)
+        self.assertEqual((live.least, live.rules, len(live), desk.order("rules")), ("ab", POWERS, 1, "letters ab"))
 
     def test_again_with_others_between(self):
         calls = asked()
@@ -124,6 +187,12 @@ class TestCalls(unittest.TestCase):
         self.assertIs(is_product(POWERS, "aaaa", thing), True)
         thing.append(("", 1, 1))
         self.assertIs(is_product(POWERS, "aaaa", thing), False)
+        images = [(1, 0), (0, 1)]
+        self.assertEqual(moved("ab", images, "a"), (1, 0))
+        images[0] = (0, 1)
+        self.assertEqual(moved("ab", images, "a"), (0, 1))
+        rules = Rules("ab")
+        self.assertIsNot(Live(rules).rules, rules)
 
 
 if __name__ == "__main__":

@@ -35,6 +35,38 @@ def nodes(kind):
             if isinstance(node, kind):
                 yield path.name, node
 
+CHANGING = "append extend insert pop remove clear update setdefault reverse sort add discard".split()
+
+
+def functions_by_name():
+    """All functions and methods of the package, by name; several may have one."""
+    found = {}
+    for _, node in nodes(ast.FunctionDef):
+        found.setdefault(node.name, []).append(node)
+    return found
+
+
+def behind_operators():
+    """The functions that run where an operator or a property does."""
+    known = functions_by_name()
+    fresh = known["__contains__"] + known["__len__"] + known["__eq__"]
+    fresh += [node for named in known.values() for node in named if node.decorator_list]
+    found = []
+    while fresh:
+        function = fresh.pop()
+        found.append(function)
+        for node in ast.walk(function):
+            if isinstance(node, ast.Call):
+                name = node.func.attr if isinstance(node.func, ast.Attribute) else node.func.id
+                fresh += [one for one in known.get(name, []) if one not in found and one not in fresh]
+    return found
+
+
+def is_new(value):
+    """Whether an expression makes a list or a dict."""
+    call = isinstance(value, ast.Call) and isinstance(value.func, ast.Name) and value.func.id in ("list", "dict")
+    return call or isinstance(value, (ast.List, ast.Dict, ast.ListComp, ast.DictComp))
+
 
 class TestFiles(unittest.TestCase):
     def test_only_plain_files(self):
@@ -124,6 +156,28 @@ class TestCode(unittest.TestCase):
                 self.assertIn(node.func.attr, METHODS + own, (name, node.lineno))
         for special in own:
             self.assertTrue(not special.startswith("__") or special in SPECIAL, special)
+
+    def test_operators_and_properties_change_only_what_is_their_own(self):
+        found = behind_operators()
+        self.assertGreater(len(found), 10)
+        for function in found:
+            assigned = [node for node in ast.walk(function) if isinstance(node, ast.Assign)]
+            names = {node.targets[0].id for node in assigned if isinstance(node.targets[0], ast.Name)}
+            other = {node.targets[0].id for node in assigned
+                     if isinstance(node.targets[0], ast.Name) and not is_new(node.value)}
+            for node in ast.walk(function):
+                changed = None
+                if isinstance(node, (ast.Subscript, ast.Attribute)) and not isinstance(node.ctx, ast.Load):
+                    changed = node.value
+                if isinstance(node, ast.Call) and getattr(node.func, "attr", None) in CHANGING:
+                    changed = node.func.value
+                while isinstance(changed, ast.Subscript):
+                    changed = changed.value
+                if changed is not None:
+                    self.assertIsInstance(changed, ast.Name, (function.name, node.lineno))
+                    self.assertIn(changed.id, names - other, (function.name, node.lineno))
+                if isinstance(node, ast.AugAssign):
+                    self.assertIsInstance(node.value, ast.Constant, (function.name, node.lineno))
 
     def test_no_generators_where_a_list_is_wanted(self):
         for name, node in nodes(ast.Call):

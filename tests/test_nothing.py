@@ -434,6 +434,36 @@ class TestOrder(Checks, unittest.TestCase):
                     self.assertIs(is_nothing(rules, row * many), expected, (rules.rows(), row, many))
         self.assertTrue({None, 1, 2, 3} <= found)
 
+    def test_long_rings(self):
+        chance = random.Random(19)
+        found = {None: 0, 1: 0, 2: 0, 3: 0}
+        for rules in WITH_ROWS:
+            for _ in range(8):
+                told = chance.choice(rules.rows())
+                base, times = root(told)
+                row = chance.choice([base * chance.randrange(times), random_row(chance, rules.letters(), 50)])
+                lead = random_row(chance, rules.letters(), 30)
+                row = lead + row + plain_back(lead)
+                # Put in here and there, told rows leave the order as it is, but make the ring long.
+                for at in (0, len(row) // 2, len(row)):
+                    row = row[:at] + product_row(rules, random_product(chance, rules, 1, 9)) + row[at:]
+                row = row[9:] + row[:9]
+                times = order(rules, row)
+                found[times] = found.get(times, 0) + 1
+                for many in range(1, 13):
+                    expected = times is not None and many % times == 0
+                    self.assertIs(is_nothing(rules, row * many), expected, (rules.rows(), row, many))
+        self.assertGreater(min(found[times] for times in (None, 1, 2, 3)), 5, found)
+
+    def test_just_as_long_as_a_told_row(self):
+        for size in (38, 39, 40, 41, 42, 43):
+            base = ("aab" + "ab" * 20)[:size]
+            self.assertIsNone(order(DOC, base + "b"))
+            for rules in (Rules("ab", ("ab" * 20,)), Rules("ab", ("aB" * 20,))):
+                row = "ab" * (size // 2)
+                expected = next((times for times in range(1, 21) if is_nothing(rules, row * times)), None)
+                self.assertEqual(order(rules, row), expected)
+
     def test_rows_of_three_hundred_characters(self):
         lead = "aab" * 49
         self.assertEqual(order(DOC, lead + "abAB" + plain_back(lead)), 4)
